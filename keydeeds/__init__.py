@@ -1,0 +1,1 @@
+"""Keydeeds: keys and rows of keys that tell deeds, in rooms."""

@@ -1,0 +1,77 @@
+"""Things that several tests use, and ways to spoil them."""
+
+HOUSE = (
+    (("hall", None), ("attic", "hall"), ("nook", "attic"), ("yard", None)),
+    (("climb", "attic"), ("leave", "yard")),
+)
+
+MAP = (
+    ("hall", ("a",), "open"),
+    ("hall", ("c-x", "c-s"), "save"),
+    ("attic", ("a",), None),
+    ("yard", ("esc", "g", "0"), "leave"),
+)
+
+# In place of a part, none of these makes any house or map. None is left out:
+# it may stand for an outer room and for a deed.
+NEVER_PARTS = (True, False, 0, 1, -3, "", "No", "a b", "a1", (), [], (None,), ["hall"])
+
+ODD_THINGS = (
+    None, True, False, 0, 1, -3, (), [], (None,), [None], ("a",), ["a"], (0, 1), (True, "a", None),
+    ("a", ("b", ["c", (None, 7)])), [["a"], ("b",)],
+)
+
+
+def nested(core, depth, as_list):
+    """The core in so many tuples, or lists, around one another."""
+    thing = core
+    for _ in range(depth):
+        thing = [thing] if as_list else (thing,)
+    return thing
+
+
+def deep_things():
+    """Things of thirty and more levels, of tuples, of lists and of both."""
+    found = []
+    for depth in (29, 30, 31, 40):
+        for as_list in (False, True):
+            for core in (None, "a", 1, True, ()):
+                found.append(nested(core, depth, as_list))
+        mixed = "hall"
+        for level in range(depth):
+            mixed = [mixed, level] if level % 2 else (mixed, None)
+        found.append(mixed)
+    return found
+
+
+def places(thing, path=()):
+    """The paths of the thing and of all its parts, the outermost first."""
+    found = [path]
+    if isinstance(thing, tuple):
+        for at, part in enumerate(thing):
+            found.extend(places(part, path + (at,)))
+    return found
+
+
+def part_at(thing, path):
+    for at in path:
+        thing = thing[at]
+    return thing
+
+
+def replaced(thing, path, part):
+    """The thing with another part at this place."""
+    if not path:
+        return part
+    at = path[0]
+    return thing[:at] + (replaced(thing[at], path[1:], part),) + thing[at + 1:]
+
+
+def with_lists(thing):
+    """The thing with a list in place of a tuple, once for each tuple in it."""
+    found = []
+    for path in places(thing):
+        part = part_at(thing, path)
+        if isinstance(part, tuple):
+            found.append(replaced(thing, path, list(part)))
+    return found
