@@ -99,9 +99,13 @@ def is_way(names, thing):
 
 def is_map(house, thing):
     """True if the thing is a map of the house; what is no house has no maps."""
-    if not is_house(house) or not is_tuple(thing, 0, MOST_BINDS):
+    return is_house(house) and are_binds(room_names(house[0]), thing)
+
+
+def are_binds(names, thing):
+    """True if the thing is a map of a house with rooms of these names."""
+    if not is_tuple(thing, 0, MOST_BINDS):
         return False
-    names = room_names(house[0])
     if not all(is_bind(names, bind) for bind in thing):
         return False
     places = [(room, keys) for room, keys, deed in thing]

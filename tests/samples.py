@@ -1,4 +1,7 @@
-"""Things that several tests use, and ways to spoil them."""
+"""Things that several tests use, ways to spoil them, and a way to ask."""
+
+import copy
+import unittest
 
 HOUSE = (
     (("hall", None), ("attic", "hall"), ("nook", "attic"), ("yard", None)),
@@ -10,6 +13,35 @@ MAP = (
     ("hall", ("c-x", "c-s"), "save"),
     ("attic", ("a",), None),
     ("yard", ("esc", "g", "0"), "leave"),
+)
+
+# Things, each with its text.
+HOUSE_TEXTS = (
+    (((("hall", None),), ()), "hall | none"),
+    (((("hall", None),), (("go", "hall"),)), "hall | go > hall"),
+    (((("hall", None), ("attic", "hall")), ()), "hall, attic < hall | none"),
+    (((("hall", None), ("yard", None)), ()), "hall, yard | none"),
+    (((("none", None), ("a", "none")), (("none", "a"),)), "none, a < none | none > a"),
+    (HOUSE, "hall, attic < hall, nook < attic, yard | climb > attic, leave > yard"),
+    (
+        (
+            (("a", None), ("b", "a"), ("c", "b"), ("d", "c"), ("e", "d"), ("f", "a")),
+            (("go", "f"), ("in", "a"), ("on", "a"), ("up", "b")),
+        ),
+        "a, b < a, c < b, d < c, e < d, f < a | go > f, in > a, on > a, up > b",
+    ),
+)
+
+MAP_TEXTS = (
+    ((), "none"),
+    ((("hall", ("a",), "open"),), "hall: a = open"),
+    ((("hall", ("a",), None),), "hall: a = -"),
+    ((("hall", ("a",), "none"),), "hall: a = none"),
+    ((("hall", ("c-x", "c-s"), "save"),), "hall: c-x c-s = save"),
+    ((("yard", ("esc", "c-m-s-up", "0"), None),), "yard: esc c-m-s-up 0 = -"),
+    ((("hall", ("a",), "open"), ("attic", ("a",), None)), "hall: a = open ; attic: a = -"),
+    ((("b", ("z",), "x"), ("a", ("y",), "w")), "b: z = x ; a: y = w"),
+    (MAP, "hall: a = open ; hall: c-x c-s = save ; attic: a = - ; yard: esc g 0 = leave"),
 )
 
 # In place of a part, none of these makes any house or map. None is left out:
@@ -75,3 +107,22 @@ def with_lists(thing):
         if isinstance(part, tuple):
             found.append(replaced(thing, path, list(part)))
     return found
+
+
+def is_plain(thing):
+    """True if the thing is made of tuples, texts, whole numbers, truths and None alone."""
+    if type(thing) is tuple:
+        return all(is_plain(part) for part in thing)
+    return thing is None or type(thing) in (str, int, bool)
+
+
+class AskingTests(unittest.TestCase):
+    """Tests that ask in such a way that what [0.3] says is checked each time."""
+
+    def ask(self, asked, *handed):
+        before = repr(copy.deepcopy(handed))
+        told = asked(*handed)
+        self.assertEqual(repr(handed), before)
+        self.assertTrue(is_plain(told), repr(told))
+        self.assertEqual(repr(asked(*handed)), repr(told))
+        return told

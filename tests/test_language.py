@@ -14,6 +14,12 @@ BUILTINS = set(
     "ZeroDivisionError ArithmeticError OverflowError RuntimeError NotImplementedError".split()
 )
 BARRED = re.compile(r"\b(type|typing|enum|Enum|Flag|Generic|Protocol|ABC|namedtuple|NamedTuple)\b|dataclass|overload")
+METHODS = set(
+    "append clear copy count endswith extend find get index insert isalnum isalpha isdigit islower isspace isupper "
+    "items join keys ljust lower lstrip partition pop remove removeprefix removesuffix replace reverse rfind rjust "
+    "rpartition rsplit rstrip setdefault split splitlines startswith strip update upper values zfill add "
+    "discard".split()
+)
 
 
 def nodes(path, kinds):
@@ -53,6 +59,40 @@ class LanguageTests(unittest.TestCase):
             for name in named:
                 self.assertNotIn(name, others, path)
                 self.assertFalse(name.startswith("_"), name)
+
+    def test_each_import_names_the_file_that_defines_it(self):
+        for path in FILES:
+            for node in nodes(path, ast.ImportFrom):
+                other = PACKAGE / (node.module.removeprefix("keydeeds.") + ".py")
+                defined = [found.name for found in nodes(other, (ast.FunctionDef, ast.ClassDef))]
+                defined += [found.id for found in nodes(other, ast.Name) if isinstance(found.ctx, ast.Store)]
+                for alias in node.names:
+                    self.assertIn(alias.name, defined, path)
+                    self.assertIsNone(alias.asname, path)
+
+    def test_no_variable_has_the_name_of_an_import(self):
+        for path in FILES:
+            imported = [alias.name for node in nodes(path, ast.ImportFrom) for alias in node.names]
+            bound = [node.id for node in nodes(path, ast.Name) if isinstance(node.ctx, ast.Store)]
+            bound += [node.arg for node in nodes(path, ast.arg)]
+            self.assertEqual(set(imported) & set(bound), set(), path)
+            self.assertEqual(len(set(imported)), len(imported), path)
+
+    def test_no_two_files_import_from_each_other(self):
+        needs = {
+            path.stem: [node.module.removeprefix("keydeeds.") for node in nodes(path, ast.ImportFrom)]
+            for path in FILES
+        }
+        done = []
+        while len(done) < len(needs):
+            ready = [name for name in needs if name not in done and set(needs[name]) <= set(done)]
+            self.assertNotEqual(ready, [], "a circle of imports")
+            done.extend(ready)
+
+    def test_only_the_methods_of_the_language(self):
+        for path in FILES:
+            for node in nodes(path, ast.Attribute):
+                self.assertIn(node.attr, METHODS, path)
 
 
 if __name__ == "__main__":

@@ -4,35 +4,7 @@ import copy
 import unittest
 
 from keydeeds.writing import written, written_house
-from samples import HOUSE, MAP
-
-HOUSE_TEXTS = (
-    (((("hall", None),), ()), "hall | none"),
-    (((("hall", None),), (("go", "hall"),)), "hall | go > hall"),
-    (((("hall", None), ("attic", "hall")), ()), "hall, attic < hall | none"),
-    (((("hall", None), ("yard", None)), ()), "hall, yard | none"),
-    (((("none", None), ("a", "none")), (("none", "a"),)), "none, a < none | none > a"),
-    (HOUSE, "hall, attic < hall, nook < attic, yard | climb > attic, leave > yard"),
-    (
-        (
-            (("a", None), ("b", "a"), ("c", "b"), ("d", "c"), ("e", "d"), ("f", "a")),
-            (("go", "f"), ("in", "a"), ("on", "a"), ("up", "b")),
-        ),
-        "a, b < a, c < b, d < c, e < d, f < a | go > f, in > a, on > a, up > b",
-    ),
-)
-
-MAP_TEXTS = (
-    ((), "none"),
-    ((("hall", ("a",), "open"),), "hall: a = open"),
-    ((("hall", ("a",), None),), "hall: a = -"),
-    ((("hall", ("a",), "none"),), "hall: a = none"),
-    ((("hall", ("c-x", "c-s"), "save"),), "hall: c-x c-s = save"),
-    ((("yard", ("esc", "c-m-s-up", "0"), None),), "yard: esc c-m-s-up 0 = -"),
-    ((("hall", ("a",), "open"), ("attic", ("a",), None)), "hall: a = open ; attic: a = -"),
-    ((("b", ("z",), "x"), ("a", ("y",), "w")), "b: z = x ; a: y = w"),
-    (MAP, "hall: a = open ; hall: c-x c-s = save ; attic: a = - ; yard: esc g 0 = leave"),
-)
+from samples import HOUSE_TEXTS, MAP_TEXTS
 
 
 class WritingTests(unittest.TestCase):
