@@ -1,4 +1,4 @@
-"""Houses and maps drawn by chance, but the same ones each time."""
+"""Houses, maps and presses drawn by chance, but the same ones each time."""
 
 import random
 
@@ -32,3 +32,12 @@ def drawn_pairs(many, keys=KEYS, seed=7):
         house = drawn_house(draw)
         found.append((house, drawn_map(draw, house, keys)))
     return found
+
+
+def drawn_presses(draw, keys, wait):
+    """Presses of the keys, many of them just in time, just too late, or at once."""
+    time, found = draw.choice((0, 5)), []
+    for _ in range(draw.randint(0, 9)):
+        found.append((draw.choice(keys), time))
+        time += draw.choice((0, 1, wait - 1, wait - 1, wait, wait + 1))
+    return tuple(found)

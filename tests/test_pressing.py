@@ -4,7 +4,7 @@ import itertools
 import random
 import unittest
 
-from chance import drawn_pairs
+from chance import drawn_pairs, drawn_presses
 from keydeeds.pressing import begin, passed, pressed, run
 from samples import AskingTests
 
@@ -241,14 +241,6 @@ def all_presses(keys, gaps, most):
         for chosen in itertools.product(itertools.product(keys, gaps), repeat=many):
             times = itertools.accumulate(gap for key, gap in chosen)
             yield tuple((key, time) for (key, gap), time in zip(chosen, times))
-
-
-def drawn_presses(draw, keys, wait):
-    time, found = draw.choice((0, 5)), []
-    for _ in range(draw.randint(0, 9)):
-        found.append((draw.choice(keys), time))
-        time += draw.choice((0, 1, wait - 1, wait - 1, wait, wait + 1))
-    return tuple(found)
 
 
 class RunTests(AskingTests):
